@@ -1,0 +1,1 @@
+"""Ringhall: a hall where things are bought and sold by orders that wait."""
