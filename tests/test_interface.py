@@ -5,7 +5,7 @@ import inspect
 import pathlib
 import unittest
 
-from ringhall import orders
+from ringhall import book, meet, opening, orders, plain
 
 FOLDER = pathlib.Path(__file__).resolve().parent.parent / "ringhall"
 
@@ -15,9 +15,18 @@ DEFINED = {
         "NoDeed", "Refused", "NoPicture", "NoText", "NoView", "NoRow",
     ],
     "orders.py": ["listed", "Order", "ranked", "lets"],
+    "plain.py": ["plain_meet"],
+    "book.py": ["Book"],
+    "meet.py": ["meet", "would"],
+    "opening.py": ["table", "price_of", "opening", "worth", "paired_off"],
 }
 
-METHODS = {("orders.py", "Order"): ["__init__", "__eq__", "__str__"]}
+METHODS = {
+    ("orders.py", "Order"): ["__init__", "__eq__", "__str__"],
+    ("book.py", "Book"): [
+        "put", "take", "row", "best", "level", "rows", "sight", "__len__", "__eq__",
+    ],
+}
 
 ASSIGNED = {
     "words.py": [
@@ -27,10 +36,26 @@ ASSIGNED = {
 }
 
 ARGUMENTS = {
-    "listed": "(name, start, *, band=None, rule='rank')",
-    "Order": "(owner, thing, side, amount, *, price=None, shown=None, stop=None, life='rest', guard='old')",
-    "ranked": "(rows)",
-    "lets": "(price, side, other)",
+    orders.listed: "(name, start, *, band=None, rule='rank')",
+    orders.Order: "(owner, thing, side, amount, *, price=None, shown=None, stop=None, life='rest', guard='old')",
+    orders.ranked: "(rows)",
+    orders.lets: "(price, side, other)",
+    plain.plain_meet: "(rows, coming, *, rank, band=None, anchor=None, rule='rank')",
+    book.Book: "()",
+    book.Book.put: "(self, row)",
+    book.Book.take: "(self, number)",
+    book.Book.row: "(self, number)",
+    book.Book.best: "(self, side)",
+    book.Book.level: "(self, side, price)",
+    book.Book.rows: "(self)",
+    book.Book.sight: "(self)",
+    meet.meet: "(book, coming, *, rank, band=None, anchor=None, rule='rank')",
+    meet.would: "(book, coming, *, band=None, anchor=None, rule='rank')",
+    opening.table: "(rows)",
+    opening.price_of: "(steps, last)",
+    opening.opening: "(rows, last, *, rank)",
+    opening.worth: "(rows, price)",
+    opening.paired_off: "(rows)",
 }
 
 
@@ -61,9 +86,9 @@ class Interface(unittest.TestCase):
             self.assertEqual(sorted(assigned), sorted(names))
 
     def test_arguments(self):
-        for name, told in ARGUMENTS.items():
-            with self.subTest(name=name):
-                self.assertEqual(str(inspect.signature(getattr(orders, name))), told)
+        for named, told in ARGUMENTS.items():
+            with self.subTest(name=named.__qualname__):
+                self.assertEqual(str(inspect.signature(named)), told)
 
 
 if __name__ == "__main__":
