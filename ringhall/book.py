@@ -28,7 +28,7 @@ class Book:
 
     def _line_up(self, queue, number, rank):
         """Puts a number where its rank has its place in the queue."""
-        # Most come with the greatest rank; one that was met in part goes back to the front.
+        # Most come with the greatest rank, some with the least.
         if queue and rank < self._by_number[queue[0]][7]:
             queue.appendleft(number)
             return
@@ -52,6 +52,10 @@ class Book:
             prices.pop(place_of(prices, side, price))
         del self._by_number[number]
         return row
+
+    def renew(self, row):
+        """Puts a row in the place of the one that is there, of its number, side, price and rank."""
+        self._by_number[row[0]] = row
 
     def row(self, number):
         """The row of a number, or None."""
@@ -82,6 +86,20 @@ class Book:
         """What anybody sees: of buys and of sells a list of (price, seen, rows), better first."""
         return self._sight_of(BUY), self._sight_of(SELL)
 
+    def prices(self, side):
+        """The prices of a side, better first."""
+        return list(reversed(self._prices[side]))
+
+    def copied(self):
+        """A book of the same rows, which goes its own way."""
+        beside = Book()
+        beside._by_number = dict(self._by_number)
+        for side in (BUY, SELL):
+            queues = self._queues[side]
+            beside._queues[side] = {price: queues[price].copy() for price in queues}
+            beside._prices[side] = list(self._prices[side])
+        return beside
+
     def _sight_of(self, side):
         """What anybody sees of a side."""
         told = []
@@ -95,6 +113,14 @@ class Book:
 
     def __eq__(self, other):
         return isinstance(other, Book) and self._by_number == other._by_number
+
+
+def book_of(rows):
+    """A book of these rows."""
+    book = Book()
+    for row in rows:
+        book.put(row)
+    return book
 
 
 def place_of(prices, side, price):

@@ -33,3 +33,10 @@ def is_name(told):
         return False
     # isalpha and islower would let letters beyond a to z by.
     return all(["a" <= sign <= "z" for sign in told])
+
+
+def word_of(told):
+    """The text that a tuple begins with, or None of what is no such tuple."""
+    if isinstance(told, tuple) and told and isinstance(told[0], str):
+        return told[0]
+    return None

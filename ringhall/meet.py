@@ -1,6 +1,6 @@
 """How a coming order meets the rows of a book: as by the plain rule, without looking through them all."""
 
-from ringhall.book import Book
+from ringhall.book import book_of
 from ringhall.orders import lets
 from ringhall.plain import against, step, too_far
 from ringhall.words import RANK, SHARE
@@ -25,22 +25,31 @@ def meet(book, coming, *, rank, band=None, anchor=None, rule=RANK):
 
 def exchange(book, out, back):
     """Takes rows out of a book and puts others in their place."""
+    ranks = {row[0]: row[7] for row in back}
     for row in out:
-        book.take(row[0])
-    # By rank each goes to the end of its queue at once, also those that show anew.
+        if ranks.get(row[0]) != row[7]:
+            book.take(row[0])
+    # By rank each that shows anew goes to the end of its queue at once.
     for row in sorted(back, key=lambda row: row[7]):
-        book.put(row)
+        if book.row(row[0]) is None:
+            book.put(row)
+        else:
+            book.renew(row)
 
 
 def would(book, coming, *, band=None, anchor=None, rule=RANK):
     """What a coming order would trade with a book, and for how much: (traded, money)."""
-    rows = book.rows()
-    beside = Book()
-    for row in rows:
-        if row[2] == against(coming[2]) and lets(coming[3], coming[2], row[3]):
-            beside.put(row)
-    # What shows anew goes behind all that stand; by how much does not matter.
-    rank = max([row[7] for row in rows], default=0) + 1
-    told = meet(beside, coming, rank=rank, band=band, anchor=anchor, rule=rule)
-    trades = [event for event in told[0] if event[0] == "trade"]
-    return sum([trade[4] for trade in trades]), sum([trade[3] * trade[4] for trade in trades])
+    number, owner, side, own_price, left, guard = coming
+    traded = 0
+    money = 0
+    for price in book.prices(against(side)):
+        if left == 0 or not lets(own_price, side, price) or too_far(price, band, anchor):
+            break
+        # A price is met to its end ahead of the next, so nothing beyond what is met need be looked at.
+        rows = book.level(against(side), price)
+        told = meet(book_of(rows), (number, owner, side, price, left, guard), rank=rows[-1][7] + 1, rule=rule)
+        left = told[1]
+        amount = sum([event[4] for event in told[0] if event[0] == "trade"])
+        traded += amount
+        money += price * amount
+    return traded, money

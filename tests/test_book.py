@@ -291,5 +291,31 @@ class ByName(BookCase):
         self.assertEqual(book.take(number=5), ROWS[0])
 
 
+class Beside(BookCase):
+    def test_prices_better_first(self):
+        book = book_of(ROWS)
+        self.assertEqual([book.prices(side) for side in SIDES], [[100, 99], [101, 102]])
+        book.prices(BUY).clear()
+        self.assertEqual(book.prices(BUY), [100, 99])
+        self.assertEqual(Book().prices(SELL), [])
+
+    def test_a_row_renewed_in_its_place(self):
+        book = book_of(ROWS)
+        row_less = row(5, "ann", BUY, 100, 33, 3, 10, 2)
+        book.renew(row_less)
+        self.check(book, [row_less] + ROWS[1:])
+
+    def test_a_copy_goes_its_own_way(self):
+        book = book_of(ROWS)
+        other = book.copied()
+        self.check(other, ROWS)
+        other.take(5)
+        other.take(0)
+        book.take(2)
+        other.put(row(7, "eve", BUY, 100, 5, 50))
+        self.check(book, ROWS[:1] + ROWS[2:])
+        self.check(other, ROWS[1:4] + ROWS[5:] + [row(7, "eve", BUY, 100, 5, 50)])
+
+
 if __name__ == "__main__":
     unittest.main()

@@ -5,7 +5,7 @@ import inspect
 import pathlib
 import unittest
 
-from ringhall import book, meet, opening, orders, plain
+from ringhall import accounts, book, hall, meet, opening, orders, plain, tape
 
 FOLDER = pathlib.Path(__file__).resolve().parent.parent / "ringhall"
 
@@ -19,12 +19,20 @@ DEFINED = {
     "book.py": ["Book"],
     "meet.py": ["meet", "would"],
     "opening.py": ["table", "price_of", "opening", "worth", "paired_off"],
+    "accounts.py": ["Accounts", "over"],
+    "hall.py": ["Hall"],
+    "tape.py": ["judged"],
 }
 
 METHODS = {
     ("orders.py", "Order"): ["__init__", "__eq__", "__str__"],
     ("book.py", "Book"): [
         "put", "take", "row", "best", "level", "rows", "sight", "__len__", "__eq__",
+    ],
+    ("accounts.py", "Accounts"): ["trade", "cash", "holding", "rows"],
+    ("hall.py", "Hall"): [
+        "__init__", "tell", "cancel", "sweep", "change", "phase", "several", "foretold", "standing", "waiting",
+        "phase_of", "last", "anchor", "cash", "holding", "sight", "cost", "picture", "__len__", "__eq__",
     ],
 }
 
@@ -56,6 +64,31 @@ ARGUMENTS = {
     opening.opening: "(rows, last, *, rank)",
     opening.worth: "(rows, price)",
     opening.paired_off: "(rows)",
+    accounts.Accounts: "()",
+    accounts.Accounts.trade: "(self, thing, buyer, seller, price, amount)",
+    accounts.Accounts.cash: "(self, owner)",
+    accounts.Accounts.holding: "(self, owner, thing)",
+    accounts.Accounts.rows: "(self)",
+    accounts.over: "(holding, buys, sells, reach)",
+    hall.Hall: "(things, *, reach=1000000000000)",
+    hall.Hall.tell: "(self, order)",
+    hall.Hall.cancel: "(self, number)",
+    hall.Hall.sweep: "(self, owner)",
+    hall.Hall.change: "(self, number, *, price=None, amount=None)",
+    hall.Hall.phase: "(self, thing, word)",
+    hall.Hall.several: "(self, deeds)",
+    hall.Hall.foretold: "(self, order)",
+    hall.Hall.standing: "(self, thing)",
+    hall.Hall.waiting: "(self, thing)",
+    hall.Hall.phase_of: "(self, thing)",
+    hall.Hall.last: "(self, thing)",
+    hall.Hall.anchor: "(self, thing)",
+    hall.Hall.cash: "(self, owner)",
+    hall.Hall.holding: "(self, owner, thing)",
+    hall.Hall.sight: "(self, thing)",
+    hall.Hall.cost: "(self, thing, side, amount)",
+    hall.Hall.picture: "(self)",
+    tape.judged: "(things, deeds, tape, *, reach=1000000000000)",
 }
 
 
