@@ -78,3 +78,12 @@ def outcome(hall, deed):
         return hall.do(deed)
     except HallError as why:
         return refusal(why)
+
+
+def tape_of(hall, deeds):
+    """The tape that a hall tells of deeds."""
+    tape = []
+    for deed in deeds:
+        told = outcome(hall, deed)
+        tape.append(told if isinstance(told, list) else [("none",)])
+    return tape

@@ -146,6 +146,81 @@ class Language(unittest.TestCase):
                 if isinstance(node, ast.Call) and isinstance(node.func, ast.Name) and node.func.id in ("any", "all"):
                     self.assertNotIsInstance(node.args[0], ast.GeneratorExp)
 
+    def test_tables_are_only_read(self):
+        for path, tree in trees():
+            tables = {
+                part.targets[0].id for part in tree.body
+                if isinstance(part, ast.Assign) and isinstance(part.value, (ast.Dict, ast.List))
+            }
+            allowed = set()
+            for node in ast.walk(tree):
+                if isinstance(node, ast.Subscript) and isinstance(node.ctx, ast.Load):
+                    allowed.add(node.value)
+                elif isinstance(node, ast.Attribute) and node.attr == "get":
+                    allowed.add(node.value)
+                elif isinstance(node, ast.Compare) and isinstance(node.ops[0], (ast.In, ast.NotIn)):
+                    allowed.update(node.comparators)
+                elif isinstance(node, ast.Assign):
+                    allowed.update(node.targets)
+            for node in ast.walk(tree):
+                if isinstance(node, ast.Name) and node.id in tables:
+                    self.assertIn(node, allowed, (path.name, node.lineno))
+
+    def test_locals_have_no_name_of_an_import_or_class(self):
+        for path, tree in trees():
+            bound = {part.name for part in tree.body if isinstance(part, ast.ClassDef)}
+            for part in tree.body:
+                if isinstance(part, ast.ImportFrom):
+                    bound |= {one.name for one in part.names}
+            for node in ast.walk(tree):
+                if isinstance(node, ast.Name) and isinstance(node.ctx, ast.Store):
+                    self.assertNotIn(node.id, bound, (path.name, node.lineno))
+                if isinstance(node, ast.arg):
+                    self.assertNotIn(node.arg, bound, (path.name, node.lineno))
+
+    def test_no_name_is_a_method_and_an_attribute(self):
+        methods, attributes = set(), set()
+        for path, tree in trees():
+            for node in ast.walk(tree):
+                if isinstance(node, ast.ClassDef):
+                    methods |= {part.name for part in node.body if isinstance(part, ast.FunctionDef)}
+                if isinstance(node, ast.Attribute) and isinstance(node.ctx, ast.Store):
+                    attributes.add(node.attr)
+        self.assertEqual(methods & attributes, set())
+        named = set(dir(str) + dir(list) + dir(dict) + dir(set) + dir(int) + dir(bytes))
+        self.assertEqual((methods | attributes) & named - METHODS, set())
+
+    def test_no_generators_and_no_maps(self):
+        for path, tree in trees():
+            for node in ast.walk(tree):
+                self.assertNotIsInstance(node, (ast.GeneratorExp, ast.Yield, ast.YieldFrom))
+                if isinstance(node, ast.Call) and isinstance(node.func, ast.Name):
+                    self.assertNotIn(node.func.id, ("map", "iter", "next"))
+
+    def test_sets_are_measured_sorted_or_asked_on_the_spot(self):
+        for path, tree in trees():
+            allowed = set()
+            for node in ast.walk(tree):
+                if isinstance(node, ast.Call) and isinstance(node.func, ast.Name) and node.func.id in ("len", "sorted"):
+                    parts = [node.args[0]]
+                    while parts:
+                        part = parts.pop()
+                        allowed.add(part)
+                        if isinstance(part, ast.BinOp):
+                            parts += [part.left, part.right]
+            for node in ast.walk(tree):
+                called = isinstance(node, ast.Call) and isinstance(node.func, ast.Name) and node.func.id == "set"
+                if called or isinstance(node, ast.SetComp):
+                    self.assertIn(node, allowed, (path.name, node.lineno))
+
+    def test_errors_are_raised_on_the_spot_and_own_ones_caught(self):
+        for path, tree in trees():
+            for node in ast.walk(tree):
+                if isinstance(node, ast.Raise):
+                    self.assertIsInstance(node.exc, ast.Call)
+                if isinstance(node, ast.ExceptHandler):
+                    self.assertIn(node.type.id, ("HallError", "BadOrder"))
+
 
 if __name__ == "__main__":
     unittest.main()

@@ -4,10 +4,9 @@ import random
 import unittest
 
 from anything import ANYTHING, alike
-from hallcase import HallCase, buy, sell
+from hallcase import HallCase, buy, sell, tape_of
 from madedeeds import some_deeds, some_things
 from plainhall import PlainHall
-from ringhall.errors import HallError
 from ringhall.hall import Hall
 from ringhall.orders import listed
 from ringhall.tape import judged
@@ -42,17 +41,6 @@ TAPE = [
     [("phase", "gold", "shut")],
     [("none",)],
 ]
-
-
-def tape_of(hall, deeds):
-    """The tape that a hall tells."""
-    tape = []
-    for deed in deeds:
-        try:
-            tape.append(hall.do(deed))
-        except HallError:
-            tape.append([("none",)])
-    return tape
 
 
 def copied(tape):
