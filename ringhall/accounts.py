@@ -24,7 +24,8 @@ class Accounts:
         """Gives an amount of a thing to an owner."""
         if owner not in self._holdings:
             self._holdings[owner] = {}
-        self._holdings[owner][thing] = self.holding(owner, thing) + amount
+        holdings = self._holdings[owner]
+        holdings[thing] = holdings.get(thing, 0) + amount
 
     def cash(self, owner):
         """The cash of an owner."""

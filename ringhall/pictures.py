@@ -86,7 +86,8 @@ class Reading:
         """Takes in the line of the reach."""
         if len(words) != 2 or number_of(words[1]) is None:
             return False
-        self._floor.reach = number_of(words[1])
+        floor = self._floor
+        floor.reach = number_of(words[1])
         return True
 
     def _reads_thing(self, words):
@@ -98,15 +99,17 @@ class Reading:
         pit.phase_now = phase
         pit.last_price = number_of(last)
         pit.anchor_price = number_of(anchor)
-        self._floor.pits[name] = pit
+        pits = self._floor.pits
+        pits[name] = pit
         return True
 
     def _reads_next(self, words):
         """Takes in the line of the next number and rank."""
         if len(words) != 3 or number_of(words[1]) is None or number_of(words[2]) is None:
             return False
-        self._floor.next_number = number_of(words[1])
-        self._floor.next_rank = number_of(words[2])
+        floor = self._floor
+        floor.next_number = number_of(words[1])
+        floor.next_rank = number_of(words[2])
         return True
 
     def _reads_order(self, words):

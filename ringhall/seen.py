@@ -155,8 +155,7 @@ class Onlooker:
         elif word == "next":
             self._show(mark, row[2])
         elif word == "less":
-            self._seen[mark].has_more = False
-            self._leave(mark, row[2])
+            self._make_less(mark, row[2])
         else:
             self._leave(mark, 0)
         self._told.append(row)
@@ -174,6 +173,12 @@ class Onlooker:
         # Only the last part can be less than the first.
         one.has_more = seen == one.first
         self._put_last(mark, seen)
+
+    def _make_less(self, mark, seen):
+        """Lets less of an order be seen, and nothing anew: what is hidden went first."""
+        one = self._seen[mark]
+        one.has_more = False
+        self._leave(mark, seen)
 
     def _leave(self, mark, seen):
         """Lets no more than this be seen of an order, in its place."""

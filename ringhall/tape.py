@@ -8,6 +8,8 @@ from ringhall.words import REACH
 
 def judged(things, deeds, tape, *, reach=REACH):
     """None where this is the tape of the deeds, else (k, j): the first wrong place j of the first wrong list k."""
+    if not isinstance(tape, list):
+        return 0, 0
     hall = Hall(things, reach=reach)
     for k, deed in enumerate(deeds):
         events = events_of(hall, deed)
@@ -49,5 +51,5 @@ def is_part_alike(part, told):
     if part is None:
         return told is None
     if isinstance(part, str):
-        return isinstance(told, str) and told == part
+        return told == part
     return is_whole(told) and told == part

@@ -280,6 +280,16 @@ class Lines(PictureCase):
                 lines[behind] = "x"
                 self.wrong("\n".join(lines), at)
 
+    def test_two_lines_out_of_their_row(self):
+        lines = list(self.LINES)
+        lines[6] = lines[6].replace("order 1 ", "order 0 ")
+        lines[11] = lines[11].replace(" 2 2 3", " 2 2 2")
+        lines[13] = lines[13].replace("owner bob", "owner a")
+        for at in (6, 11, 13):
+            self.wrong("\n".join(lines), at)
+            lines[at] = self.LINES[at]
+        self.assertIsNone(self.judged("\n".join(lines)))
+
     def test_made_pictures_with_a_word_otherwise(self):
         words = "- 0 1 2 5 90 95 105 gold tin ann zoe buy sell rest now only".split(" ")
         for seed in range(60):
@@ -482,6 +492,9 @@ class Bounds(PictureCase):
         for line in ("owner a 0", "owner a 1 gold 0", "owner a 0 gold 0", "owner a 1 gold 0 tin 5"):
             text = "\n".join(self.HEAD + [line])
             self.assertIsNone(self.judged(text))
+            # The program refuses it, as its picture would be another one.
+            self.refused_at(text, 4)
+            self.refused_at(text + "\nowner b 1", 4)
             # What is not so by itself goes ahead, wherever it stands.
             self.wrong_line(line, "x")
 

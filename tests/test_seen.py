@@ -10,8 +10,9 @@ from onlookoracle import sight_of, wrong
 from plainhall import PlainHall
 from ringhall.errors import HallError, NoView
 from ringhall.hall import Hall
+from ringhall.kinds import is_name
 from ringhall.orders import listed
-from ringhall.seen import Onlooker, public
+from ringhall.seen import Onlooker, owner_of, public
 
 MOST = 1000000000
 
@@ -165,6 +166,15 @@ class Public(unittest.TestCase):
             ("tell", sell("bob", 5, 95)),
         ], [
             ("stands", 0, "sell", 95, 3), ("gone", 0), ("stands", 1, "buy", 95, 5), ("met", 1, 5), ("next", 1, 1),
+        ])
+
+    def test_a_changed_one_made_less_stands_with_the_rest(self):
+        self.shows([
+            ("tell", buy("ann", 5, 90, guard="less")), ("tell", sell("ann", 3, 95)), ("change", 0, 95, None),
+            ("tell", sell("bob", 5, 95)),
+        ], [
+            ("stands", 0, "buy", 90, 5), ("stands", 1, "sell", 95, 3), ("gone", 0), ("gone", 1),
+            ("stands", 2, "buy", 95, 2), ("met", 2, 2), ("stands", 3, "sell", 95, 3),
         ])
 
     def test_waiting_and_woken(self):
@@ -505,6 +515,12 @@ class Deeds(Lookout):
                 rows.append(("met", mark, MOST))
                 onlooker.look(rows[-1])
         self.shows(onlooker, rows)
+
+    def test_each_number_has_an_owner_of_its_own(self):
+        names = [owner_of(number) for number in range(20000)]
+        self.assertEqual(names[:3] + names[25:28] + names[701:703], ["a", "b", "c", "z", "aa", "ab", "zz", "aaa"])
+        self.assertEqual(len(set(names)), 20000)
+        self.assertTrue(all(map(is_name, names + [owner_of(10 ** 11)])))
 
     def test_any_name(self):
         onlooker = self.looked(BUYS)

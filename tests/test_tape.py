@@ -176,6 +176,12 @@ class Judged(HallCase):
                 if not isinstance(other, list):
                     self.check(TAPE[:k] + [other] + TAPE[k + 1:], (k, 0))
 
+    def test_a_tape_that_is_none(self):
+        for other in ANYTHING + [tuple(TAPE), {}]:
+            if not isinstance(other, list):
+                self.check(other, (0, 0))
+                self.check(other, (0, 0), deeds=[])
+
     def test_the_first_of_several(self):
         tape = copied(TAPE)
         tape[9][2] = None
