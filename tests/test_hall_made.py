@@ -148,11 +148,11 @@ class Sums(HallCase):
 
 
 class Time(HallCase):
-    def big(self):
-        """A hall of many orders that stand and wait."""
+    def big(self, many):
+        """A hall of so many orders that stand and wait."""
         chance = random.Random(7)
         hall = Hall([listed("gold", 1000), listed("tin", 1000, rule="share")])
-        for at in range(4000):
+        for at in range(many):
             side = chance.choice([BUY, SELL])
             away = chance.randint(1, 400) * (1 if side == SELL else -1)
             stop = 1000 - away if at % 8 == 0 else None
@@ -164,8 +164,8 @@ class Time(HallCase):
         return hall
 
     def test_forty_deeds_with_looks(self):
-        hall = self.big()
-        self.assertEqual(len(hall), 4000)
+        hall = self.big(1500)
+        self.assertEqual(len(hall), 1500)
         chance = random.Random(8)
         started = time.perf_counter()
         for at in range(40):
@@ -187,11 +187,11 @@ class Time(HallCase):
                 hall.cost(name, SELL, 5000)
             hall.holding("zoe", thing)
             hall.picture()
-        self.assertLess(time.perf_counter() - started, 3)
+        self.assertLess(time.perf_counter() - started, 1)
 
     def test_many_orders_told(self):
         started = time.perf_counter()
-        hall = self.big()
+        hall = self.big(4000)
         self.assertLess(time.perf_counter() - started, 2)
         started = time.perf_counter()
         hall.tell(Order("zoe", "gold", BUY, 1000000, life="now"))
